@@ -1,0 +1,1 @@
+"""Lookspare: looks at rows that can be spared."""
