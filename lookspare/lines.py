@@ -17,6 +17,10 @@ GIVING = ("set", "sum", "len", "take", "get")
 PLACING = ("get", "put")
 
 
+def kinds_behind(word):
+    return PARTS.get(word)
+
+
 def parts(line):
     return list(zip(PARTS[line[0]], line[1:]))
 
@@ -31,6 +35,11 @@ def gives(line):
 
 def is_place(line):
     return line[0] in PLACING
+
+
+# The row of a place line, and the value and the number that add up to its place.
+def place_of(line):
+    return line[2:5] if line[0] == "get" else line[1:4]
 
 
 def is_ask(line):

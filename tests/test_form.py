@@ -26,6 +26,10 @@ NO_WORDS = re.compile(
     r"|NamedTuple|TypedDict|TYPE_CHECKING|abstractmethod)\b|dataclass|overload|contextmanager"
 )
 NO_NAMES = """register mro elements open input version_info with_traceback add_note format format_map""".split()
+NO_VALUES = """items keys values pop update append clear extend insert remove reverse setdefault sort args encode
+format""".split()
+FREE_VALUES = "count index title find get join lower upper split strip copy add".split()
+CHANGING = "append clear extend insert pop remove reverse setdefault update".split()
 PLAIN = re.compile(r"[A-Za-z][A-Za-z0-9_]*")
 
 
@@ -133,6 +137,51 @@ class Form(unittest.TestCase):
         for name, node in walked(ast.Name):
             if node.id in dir(builtins):
                 self.assertIn(node.id, OWN_OF_PYTHON, (name, node.lineno))
+
+    def test_calls_alone_stand_by_themselves(self):
+        for path in FILES:
+            docstring = tree_of(path).body[0]
+            for name, node in [pair for pair in walked(ast.Expr) if pair[0] == path.name]:
+                if node.lineno != docstring.lineno:
+                    self.assertIsInstance(node.value, ast.Call, (name, node.lineno))
+
+    def test_no_local_is_called_like_an_import_or_a_class(self):
+        for path in FILES:
+            tree = tree_of(path)
+            taken = [one.name for node in tree.body if isinstance(node, ast.ImportFrom) for one in node.names]
+            taken += [node.name for node in tree.body if isinstance(node, ast.ClassDef)]
+            for node in ast.walk(tree):
+                if isinstance(node, ast.arg):
+                    self.assertNotIn(node.arg, taken, path.name)
+                if isinstance(node, ast.Name) and isinstance(node.ctx, ast.Store):
+                    self.assertNotIn(node.id, taken, (path.name, node.lineno))
+
+    def test_methods_and_values_of_classes(self):
+        methods = []
+        for name, node in walked(ast.ClassDef):
+            own = [part.name for part in node.body if isinstance(part, ast.FunctionDef)]
+            self.assertEqual(len(own), len(set(own)), (name, node.name))
+            self.assertLessEqual(len(node.bases), 1, (name, node.name))
+            for part in node.body:
+                self.assertIsInstance(part, (ast.FunctionDef, ast.Pass), (name, node.name))
+            methods += own
+        of_python = {word for kind in (str, int, list, tuple, dict, set, bytes) for word in dir(kind)}
+        for name, node in walked(ast.Attribute):
+            if isinstance(node.ctx, ast.Store):
+                self.assertNotIn(node.attr, methods, (name, node.lineno))
+                self.assertNotIn(node.attr, NO_VALUES, (name, node.lineno))
+                self.assertTrue(node.attr not in of_python or node.attr in FREE_VALUES, (name, node.lineno))
+        for method in methods:
+            self.assertTrue(method in DOUBLE or method in METHODS or method not in of_python, method)
+
+    def test_what_a_loop_walks_is_not_changed_in_it(self):
+        for name, loop in walked(ast.For):
+            words = [ast.dump(node) for node in ast.walk(loop.iter) if isinstance(node, (ast.Name, ast.Attribute))]
+            for node in [node for part in loop.body for node in ast.walk(part)]:
+                if isinstance(node, ast.Subscript) and isinstance(node.ctx, ast.Store):
+                    self.assertNotIn(ast.dump(node.value), words, (name, node.lineno))
+                if isinstance(node, ast.Call) and isinstance(node.func, ast.Attribute) and node.func.attr in CHANGING:
+                    self.assertNotIn(ast.dump(node.func.value), words, (name, node.lineno))
 
     def test_methods(self):
         own = [node.name for name, node in walked(ast.FunctionDef)]
