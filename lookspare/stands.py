@@ -1,8 +1,7 @@
 """Stands, and what facts tell of a bound."""
 
+from lookspare.bounds import ZERO, against
 from lookspare.roads import Search, nodes_of, ring_of
-
-ZERO = ("zero",)
 
 
 def verdict(facts, bound):
@@ -11,11 +10,11 @@ def verdict(facts, bound):
         return ("ring", ring)
     # The facts and a fact against the bound: a ring of them is a road that shows the bound, closed by that fact;
     # where there is none, numbers keep them all, and so break the bound.
-    against = (bound[1], bound[0], -1 - bound[2])
-    all_facts = facts + [against]
+    closing = against(bound)
+    all_facts = facts + [closing]
     search = Search(all_facts, nodes_of(all_facts + [(ZERO, ZERO, 0)]))
     if search.ring is not None:
-        return ("road", opened(search.ring, against))
+        return ("road", opened(search.ring, closing))
     return ("stand", stand_by(search.sums))
 
 

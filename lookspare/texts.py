@@ -1,5 +1,6 @@
 """Programs as texts: a row for the counts, then a row for each line."""
 
+from lookspare.bounds import ZERO
 from lookspare.errors import BadRow
 from lookspare.lines import is_ask, kinds_behind, parts
 from lookspare.programs import MOST_BOUNDS, check_program
@@ -47,7 +48,7 @@ def part_word(kind, part):
 
 
 def node_word(node):
-    return NOUGHT if node[0] == "zero" else MARKS[node[0]] + str(node[1])
+    return NOUGHT if node == ZERO else MARKS[node[0]] + str(node[1])
 
 
 def counts_in(row):
@@ -81,7 +82,7 @@ def bound_in(words, at):
 
 def node_in(word, at):
     if word == NOUGHT:
-        return ("zero",)
+        return ZERO
     if word.startswith(MARKS["name"]):
         return ("name", marked_in("name", word, at), 0)
     return ("len", marked_in("len", word, at))

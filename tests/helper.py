@@ -3,6 +3,7 @@
 import copy
 
 from lookspare.errors import NoProgram
+from lookspare.lines import ways
 from lookspare.programs import check_program
 
 ZERO = ("zero",)
@@ -39,12 +40,24 @@ def kinds_of(told):
 
 
 def random_program(chance):
-    """A right program; asks lead to later lines or to other words, so no ring goes through them alone."""
+    """A right program; most of its lines are often come to by no way, or by one only."""
     names, rows, count = chance.randint(0, 6), chance.randint(0, 3), chance.randint(1, 12)
     words = ["test", "ask", "end"]
     words += ["set", "set", "sum", "take", "tell", "test"] * (names > 0)
     words += ["len", "get", "get", "put", "put"] * (names > 0 and rows > 0)
-    chosen = [chance.choice(words) for at in range(count - 1)] + ["end"]
+    return program_of_words(chance, names, rows, [chance.choice(words) for at in range(count - 1)] + ["end"])
+
+
+def winding_program(chance):
+    """A right program in which ways meet and part often, with one end."""
+    words = "set set set sum len take get get put tell test test test ask".split()
+    chosen = [chance.choice(words) for at in range(chance.randint(4, 20))] + ["end"]
+    return program_of_words(chance, chance.randint(1, 3), chance.randint(1, 2), chosen)
+
+
+def program_of_words(chance, names, rows, chosen):
+    """Asks lead to later lines or to other words, so no ring goes through them alone."""
+    count = len(chosen)
     lines = []
     for at, word in enumerate(chosen):
         later = [k for k in range(count) if k > at or chosen[k] != "ask"]
@@ -136,3 +149,14 @@ def wrong_with_ring(ring, facts):
     if sum(fact[2] for fact in ring) >= 0:
         return "not below 0"
     return wrong_with_road(ring, facts, ring[0][0], ring[0][0])
+
+
+def random_ways(chance, program, start, most):
+    """Ways end to end from a line on, at most so many; fewer where an end is come to."""
+    steps = []
+    at = start
+    while len(steps) < most and ways(program[2][at]):
+        which = chance.randrange(len(ways(program[2][at])))
+        steps.append((at, which))
+        at = ways(program[2][at])[which]
+    return steps

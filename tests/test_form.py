@@ -2,6 +2,7 @@
 
 import ast
 import builtins
+import functools
 import pathlib
 import re
 import unittest
@@ -33,6 +34,7 @@ CHANGING = "append clear extend insert pop remove reverse setdefault update".spl
 PLAIN = re.compile(r"[A-Za-z][A-Za-z0-9_]*")
 
 
+@functools.cache
 def tree_of(path):
     return ast.parse(path.read_text(encoding="ascii"))
 
