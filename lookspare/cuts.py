@@ -20,7 +20,12 @@ def into(program, line):
 
 
 def cuts(program):
-    return [line for line, leading in into_each(program).items() if is_cut(line, leading)]
+    return list(into_cuts(program))
+
+
+# The ways into each cut, cuts rising.
+def into_cuts(program):
+    return dict([(line, leading) for line, leading in into_each(program).items() if is_cut(line, leading)])
 
 
 # The ways into each line that is come to, lines rising; the begin is None.

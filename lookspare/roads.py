@@ -39,6 +39,16 @@ def ring_of(facts):
     return Search(facts, nodes_of(facts)).ring
 
 
+# The road by which a search from a alone came to b; the search met no ring of a sum below 0.
+def road_back(search, a, b):
+    back = []
+    node = b
+    while node != a:
+        back.append(search.last[node])
+        node = back[-1][0]
+    return list(reversed(back))
+
+
 def nodes_of(facts):
     nodes = {}
     for fact in facts:

@@ -2,12 +2,22 @@
 
 import copy
 
+from lookspare.claims import known
+from lookspare.cuts import cuts, into
 from lookspare.errors import NoProgram
 from lookspare.lines import ways
 from lookspare.programs import check_program
+from lookspare.trails import at_end, trail_by
+from lookspare.walks import Walk
 
 ZERO = ("zero",)
+END = ("end",)
 FAR = 10 ** 30
+LENGTH = ("len", 0)
+
+
+def x(name, version=0):
+    return ("name", name, version)
 
 
 def ask(k, m):
@@ -160,3 +170,122 @@ def random_ways(chance, program, start, most):
         steps.append((at, which))
         at = ways(program[2][at])[which]
     return steps
+
+
+# Programs whose walks go on for long, with their rows and what they take.
+SUMMING = (3, 1, [
+    ("len", 1, 0, 1),
+    ("test", 0, 1, -1, 2, 6),
+    ("get", 2, 0, 0, 0, 3),
+    ("put", 0, None, 0, 2, 4),
+    ("tell", 2, 5),
+    ("set", 0, 0, 1, 1),
+    END,
+])
+ASKING = (3, 2, [
+    ("take", 0, 1),
+    ("ask", ((ZERO, x(0), 0), (x(0), ("len", 0), -1)), 2, 6),
+    ("get", 1, 0, 0, 0, 3),
+    ("ask", ((x(1), x(2), 0),), 5, 4),
+    ("set", 2, 1, 0, 5),
+    ("sum", 0, 0, 1, 1),
+    ("ask", ((x(0), ZERO, -2),), 8, 7),
+    ("set", 0, 0, -3, 1),
+    ("tell", 2, 0),
+])
+SINKING = (2, 0, [("set", 0, None, 30, 1), ("test", None, 0, -1, 2, 3), ("set", 0, 0, -1, 1), ("take", 1, 0)])
+WALKS = [
+    (SUMMING, [[1, 2, 3, 4, 5]], []),
+    (SUMMING, [[-7]], []),
+    (SUMMING, [[]], []),
+    (ASKING, [[0, 3, -1, 1, 2], []], [3, -1, 4, 10, 0, 2, -2, 7] * 9),
+    (ASKING, [[5] * 40, [1]], [39, 12, 1, 0, -100]),
+    (SINKING, [], list(range(9))),
+]
+
+
+def number_of(node, numbers, rows):
+    """The number of a node, numbers being a dict from names in their versions."""
+    if node == ZERO:
+        return 0
+    return len(rows[node[1]]) if node[0] == "len" else numbers[node]
+
+
+def are_so(bounds, numbers, rows):
+    for a, b, c in bounds:
+        if number_of(a, numbers, rows) - number_of(b, numbers, rows) > c:
+            return False
+    return True
+
+
+def way_gone(program, at, values, rows):
+    line = program[2][at]
+    numbers = {x(name): value for name, value in enumerate(values)}
+    if line[0] == "test":
+        y, w = [ZERO if value is None else x(value) for value in line[1:3]]
+        return (at, 0 if are_so([(y, w, line[3])], numbers, rows) else 1)
+    return (at, 0 if line[0] != "ask" or are_so(line[1], numbers, rows) else 1)
+
+
+def course_of(program, rows, taken, budget):
+    """The ways that a walk goes, asks among them, with the names' values ahead of each and behind the last one."""
+    walk = Walk(program, rows, taken, budget)
+    gone = []
+    seen = [walk.frame()[1]]
+    while True:
+        at, values = walk.frame()
+        between = []
+        while program[2][at][0] == "ask":
+            between.append(way_gone(program, at, values, rows))
+            at = ways(program[2][at])[between[-1][1]]
+        way = way_gone(program, at, values, rows)
+        walk.step()
+        gone += between
+        seen += [values] * len(between)
+        if walk.told()[0] is not None:
+            return gone, seen
+        gone.append(way)
+        seen.append(walk.frame()[1])
+
+
+# Programs for claims. The first reads a row place by place: line 1 is its one cut beside line 0.
+COUNTING = (2, 1, [
+    ("set", 0, None, 0, 1),
+    ("len", 1, 0, 2),
+    ("test", 0, 1, -1, 3, 5),
+    ("get", 1, 0, 0, 0, 4),
+    ("set", 0, 0, 1, 1),
+    END,
+])
+RISING = (1, 0, [("set", 0, 0, 1, 0)])
+# Names 0 and 1 are given one another's value.
+SWAPPING = (3, 0, [("set", 2, 0, 0, 1), ("set", 0, 1, 0, 2), ("set", 1, 2, 0, 0)])
+# No run comes to line 1; both its ways lead to line 2, which leads to itself.
+NEVER = (2, 1, [("test", None, None, -1, 1, 3), ("test", 0, 1, 0, 2, 2), ("tell", 0, 2), END])
+
+
+def random_bound(chance, program, most_c=4):
+    """A bound of nodes that the program has, names in version 0."""
+    nodes = [ZERO] + [x(name) for name in range(program[0])] + [("len", row) for row in range(program[1])]
+    return (chance.choice(nodes), chance.choice(nodes), chance.randint(-most_c, most_c))
+
+
+def random_claims(chance, program, count):
+    """Claims at any lines, most of them wrong."""
+    return [(chance.randrange(len(program[2])), random_bound(chance, program)) for claim in range(count)]
+
+
+def is_shown_by(program, claims, claim, way):
+    """Whether a way into its line shows a claim, told otherwise than the program does."""
+    a, b, c = claim[1] if way is None else at_end(program, trail_by(program, way)[1], claim[1])
+    sums = all_least(known(program, claims, way) + [(a, a, 0), (b, b, 0)])
+    return sums is None or ((a, b) in sums and sums[a, b] <= c)
+
+
+def all_hold(program, claims):
+    """What hold tells, told otherwise."""
+    for claim in claims:
+        if claim[0] in cuts(program):
+            if not all(is_shown_by(program, claims, claim, way) for way in into(program, claim[0])):
+                return False
+    return True

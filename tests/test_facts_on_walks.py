@@ -1,94 +1,10 @@
 import random
 import unittest
 
-from helper import ZERO, random_program, winding_program
+from helper import WALKS, ZERO, are_so, course_of, number_of, random_program, winding_program, x
 from lookspare.cuts import cuts
 from lookspare.lines import gives, ways
 from lookspare.trails import at_end, facts_of, trail, versions
-from lookspare.walks import Walk
-
-END = ("end",)
-
-
-def x(name):
-    return ("name", name, 0)
-
-
-# Programs whose walks go on for long, with their rows and what they take.
-SUMMING = (3, 1, [
-    ("len", 1, 0, 1),
-    ("test", 0, 1, -1, 2, 6),
-    ("get", 2, 0, 0, 0, 3),
-    ("put", 0, None, 0, 2, 4),
-    ("tell", 2, 5),
-    ("set", 0, 0, 1, 1),
-    END,
-])
-ASKING = (3, 2, [
-    ("take", 0, 1),
-    ("ask", ((ZERO, x(0), 0), (x(0), ("len", 0), -1)), 2, 6),
-    ("get", 1, 0, 0, 0, 3),
-    ("ask", ((x(1), x(2), 0),), 5, 4),
-    ("set", 2, 1, 0, 5),
-    ("sum", 0, 0, 1, 1),
-    ("ask", ((x(0), ZERO, -2),), 8, 7),
-    ("set", 0, 0, -3, 1),
-    ("tell", 2, 0),
-])
-COUNTING = (2, 0, [("set", 0, None, 30, 1), ("test", None, 0, -1, 2, 3), ("set", 0, 0, -1, 1), ("take", 1, 0)])
-WALKS = [
-    (SUMMING, [[1, 2, 3, 4, 5]], []),
-    (SUMMING, [[-7]], []),
-    (SUMMING, [[]], []),
-    (ASKING, [[0, 3, -1, 1, 2], []], [3, -1, 4, 10, 0, 2, -2, 7] * 9),
-    (ASKING, [[5] * 40, [1]], [39, 12, 1, 0, -100]),
-    (COUNTING, [], list(range(9))),
-]
-
-
-def number_of(node, numbers, rows):
-    """The number of a node, numbers being a dict from names in their versions."""
-    if node == ZERO:
-        return 0
-    return len(rows[node[1]]) if node[0] == "len" else numbers[node]
-
-
-def are_so(bounds, numbers, rows):
-    for a, b, c in bounds:
-        if number_of(a, numbers, rows) - number_of(b, numbers, rows) > c:
-            return False
-    return True
-
-
-def way_gone(program, at, values, rows):
-    line = program[2][at]
-    numbers = {x(name): value for name, value in enumerate(values)}
-    if line[0] == "test":
-        y, w = [ZERO if value is None else x(value) for value in line[1:3]]
-        return (at, 0 if are_so([(y, w, line[3])], numbers, rows) else 1)
-    return (at, 0 if line[0] != "ask" or are_so(line[1], numbers, rows) else 1)
-
-
-def course_of(program, rows, taken, budget):
-    """The ways that a walk goes, asks among them, with the names' values ahead of each and behind the last one."""
-    walk = Walk(program, rows, taken, budget)
-    gone = []
-    seen = [walk.frame()[1]]
-    while True:
-        at, values = walk.frame()
-        between = []
-        while program[2][at][0] == "ask":
-            between.append(way_gone(program, at, values, rows))
-            at = ways(program[2][at])[between[-1][1]]
-        way = way_gone(program, at, values, rows)
-        walk.step()
-        gone += between
-        seen += [values] * len(between)
-        if walk.told()[0] is not None:
-            return gone, seen
-        gone.append(way)
-        seen.append(walk.frame()[1])
-
 
 def numbers_along(program, steps, seen):
     """The value that each name had in each of its versions; seen are the values ahead of each step and at the end."""
